@@ -1,0 +1,105 @@
+"""How much weight the steps of a town come to: heights of states, or a step in a ring."""
+
+from cutofftills.rounds import parts_of
+from cutofftills.searches import Web
+from cutofftills.states import gain
+
+
+class Climb:
+    """The reached states of a town with the weights of their steps, in all or after a loss alone."""
+
+    def __init__(self, town, after_loss):
+        web = Web(town)
+        self.search = web.search
+        # By the indexes of states, as lists of tuples (event, weight, index of the state behind).
+        self.arcs = [arcs_of(state, rows, after_loss) for state, rows in zip(web.search.states, web.steps)]
+        parts = parts_of([[target for _, _, target in row] for row in self.arcs])
+        self.rising = rising_arc(self.arcs, parts)
+        # The greatest weight by which each state is reached, if there is a bound to it.
+        self.heights = heights_of(self.arcs, parts) if self.rising is None else None
+
+
+def arcs_of(state, rows, after_loss):
+    """The steps of a state with their weights; after_loss: those ahead of a loss have none."""
+    if after_loss and not state[5]:
+        return [(event, 0, target) for event, _, target in rows]
+    return [(event, gain(event, word), target) for event, word, target in rows]
+
+
+def part_numbers(parts):
+    """For each node the index of its part."""
+    numbers = [0 for nodes in parts for _ in nodes]
+    for number, nodes in enumerate(parts):
+        for node in nodes:
+            numbers[node] = number
+    return numbers
+
+
+def rising_arc(arcs, parts):
+    """A step (node, event, target) with a weight above 0 within a part, or None."""
+    numbers = part_numbers(parts)
+    for node, row in enumerate(arcs):
+        for event, weight, target in row:
+            if weight > 0 and numbers[node] == numbers[target]:
+                return node, event, target
+    return None
+
+
+def heights_of(arcs, parts):
+    """For each node the greatest weight of the ways from node 0, if no ring has one above 0.
+
+    Nothing is topped up in a ring, so all steps within a part have weight 0,
+    and its nodes have one height.
+    """
+    numbers = part_numbers(parts)
+    best = [None for _ in parts]
+    best[numbers[0]] = 0
+    for number, nodes in enumerate(parts):
+        for node in nodes:
+            for _, weight, target in arcs[node]:
+                height = best[number] + weight
+                later = numbers[target]
+                if best[later] is None or best[later] < height:
+                    best[later] = height
+    return [best[number] for number in numbers]
+
+
+def way_to(arcs, start, ends):
+    """As few events as possible on the way from a node to one of those that ends tells by truths."""
+    sources = {start: None}
+    queue = [start]
+    at = 0
+    while not ends[queue[at]]:
+        for event, _, target in arcs[queue[at]]:
+            if target not in sources:
+                sources[target] = (queue[at], event)
+                queue.append(target)
+        at += 1
+    node = queue[at]
+    events = []
+    while sources[node] is not None:
+        node, event = sources[node]
+        events.append(event)
+    return events[::-1]
+
+
+def top_height(climb):
+    """The greatest weight that is reached, if there is a bound to it."""
+    return max([int(height) for height in climb.heights])
+
+
+def highest_way(climb):
+    """As few events as possible behind which the greatest weight is reached."""
+    heights = climb.heights
+    top = top_height(climb)
+    # A way comes to the greatest weight only by steps that come to the height of each state on it.
+    level = [[arc for arc in row if heights[node] + arc[1] == heights[arc[2]]]
+             for node, row in enumerate(climb.arcs)]
+    return way_to(level, 0, [height == top for height in heights])
+
+
+def rising_ring(climb):
+    """The events of a way to a ring with a weight above 0, and those of the ring."""
+    node, event, target = climb.rising
+    ends = [index == node for index in range(len(climb.arcs))]
+    return climb.search.events_to(node), [event] + way_to(climb.arcs, target, ends)
