@@ -5,7 +5,8 @@ from cutofftills.moves import steps_from
 from cutofftills.searches import Search
 from cutofftills.states import first_state
 
-REFUSALS = ("house", "limit", "list", "memory")
+# The house refuses none of them: what is left there is never less than the money that is there.
+REFUSALS = ("limit", "list", "memory")
 
 
 def is_honest_event(state, event):
@@ -28,9 +29,9 @@ def first_refusals(town, enough):
         state = search.states[at]
         for event, word, behind in steps_from(layout, state):
             if is_honest_event(state, event):
-                if word in REFUSALS and word not in found and len(found) < enough:
+                if word in REFUSALS and word not in found:
                     found[word] = search.events_to(at) + [event]
-                search.find(behind, at, event)
+                search.reach(behind, at, event)
         at += 1
     return found
 
@@ -60,6 +61,6 @@ def taken_twice(town):
             if units > 0:
                 return search.events_to(at) + [("line", name), ("again", name)]
         for event, _, behind in steps_from(layout, state):
-            search.find(behind, at, event)
+            search.reach(behind, at, event)
         at += 1
     return None

@@ -53,13 +53,13 @@ class Life:
     def copy(self):
         """A Life with the same events that goes on by itself."""
         life = Life(self.town)
-        for event in self.events:
+        for event in list(self.events):
             life.do(event)
         return life
 
     def night(self):
         """Gets all lines back, in the order of the town; the events by which this was done."""
-        events = [("line", name) for name in self.town.names() if self.can(("line", name))]
-        for event in events:
-            self.do(event)
-        return events
+        lines = [("line", name) for name in self.town.names() if self.can(("line", name))]
+        for line in lines:
+            self.do(line)
+        return lines

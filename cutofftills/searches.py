@@ -16,7 +16,7 @@ class Search:
         self.places = {first: 0}
         self.sources = [None]
 
-    def find(self, state, source, event):
+    def reach(self, state, source, event):
         """The index of a state to which an event leads from the state at the index source."""
         if state in self.places:
             return self.places[state]
@@ -48,4 +48,4 @@ class Web:
         while len(self.steps) < len(self.search.states):
             at = len(self.steps)
             rows = steps_from(layout, self.search.states[at])
-            self.steps.append([(event, word, self.search.find(behind, at, event)) for event, word, behind in rows])
+            self.steps.append([(event, word, self.search.reach(behind, at, event)) for event, word, behind in rows])

@@ -90,10 +90,10 @@ class Reached(unittest.TestCase):
     def test_just_so_many(self):
         search = Search(0)
         for number in range(1, 20000):
-            self.assertEqual(search.find(number, number - 1, ("lose",)), number)
-        self.assertEqual(search.find(19999, 0, ("lose",)), 19999)
+            self.assertEqual(search.reach(number, number - 1, ("lose",)), number)
+        self.assertEqual(search.reach(19999, 0, ("lose",)), 19999)
         with self.assertRaises(TooMany):
-            search.find(20000, 0, ("lose",))
+            search.reach(20000, 0, ("lose",))
         self.assertEqual(len(search.states), 20000)
 
 

@@ -154,7 +154,8 @@ class Links(Checked):
 
     def test_entries_that_are_no_links(self):
         for value in [["a", "b"], "ab", ("a",), ("a", "b", "c"), ("b", "a"), ("a", "a"), ("a", "d"), ("d", "e"),
-                      ("A", "b"), ("a", 1), (1, "b"), (None, None), (("a",), ("b",)), (True, "b"), ("", "a"), ()]:
+                      ("aa", "b"), ("A", "b"), ("a", 1), (1, "b"), (None, None), (("a",), ("b",)), (True, "b"),
+                      ("", "a"), ()]:
             self.bad_link(0, [value])
             self.bad_link(1, [("a", "b"), value, None])
             self.bad_link(2, (("a", "b"), ("a", "c"), value))

@@ -40,7 +40,7 @@ class Most(unittest.TestCase):
         self.assertEqual([most_overspent(town.changed("memory", ("times", n))) for n in range(5)], [0, 3, 3, 4, 5])
 
     def test_no_bound(self):
-        for town in (deaf(1), deaf(9, money=9), deaf(1, tops=5), Town.even(1, 2, 2).with_till(Till("a", 1, heeds=False)),
+        for town in (deaf(1), deaf(9, money=9), deaf(1, tops=5), deaf(1, money=2, numbered=False),
                      deaf(3, numbered=False), Town([Till("a", 2), Till("b", 1, heeds=False)], money=1)):
             self.assertIsNone(most_overspent(town))
             self.assertIsNone(most_after_loss(town))

@@ -1,0 +1,68 @@
+"""The names, files and parameters of the interface."""
+
+import importlib
+import inspect
+import unittest
+
+FUNCTIONS = {
+    "words": {"is_name": "value", "is_memory": "value"},
+    "events": {"is_event": "town value", "events_of": "town"},
+    "states": {"first_state": "town", "is_state": "town value", "can_be": "town state event",
+               "after": "town state event", "gain": "event word", "choices": "town state"},
+    "runs": {"wrong_refusals": "run"},
+    "graphs": {"steps": "town state", "reached_states": "town", "least_events": "town state"},
+    "worst": {"most_overspent": "town", "worst_run": "town", "most_after_loss": "town", "loss_run": "town"},
+    "honest": {"refused_run": "town", "refusals_of": "town", "taken_twice": "town"},
+}
+CLASSES = {
+    ("tills", "Till"): {"__init__": "name limit *heeds=True", "__eq__": "other", "__le__": "other",
+                        "changed": "part value"},
+    ("towns", "Town"): {
+        "__init__": "tills *links=() *money=0 *memory=('nothing',) *tops=0 *numbered=True", "__eq__": "other",
+        "__len__": "", "__iter__": "", "__contains__": None, "__getitem__": None, "names": "", "group": "name",
+        "with_till": "till", "with_links": "links", "changed": "part value", "with_limits": "limits"},
+    ("runs", "Run"): {
+        "__init__": "town events", "__eq__": "other", "__len__": "", "words": "", "state": "", "left": "", "paid": "",
+        "topped": "", "paid_after_loss": "", "overspent": "", "is_honest": "", "is_wronged": "", "untold": "",
+        "then": "event"},
+    ("lives", "Life"): {"__init__": "town", "__eq__": "other", "__len__": "", "do": "event", "undo": "", "run": "",
+                        "can": "event", "choices": "", "copy": "", "night": ""},
+}
+
+
+def shown(parameter):
+    """A parameter as it is written in the tables above."""
+    star = "*" if parameter.kind is parameter.KEYWORD_ONLY else ""
+    default = "" if parameter.default is parameter.empty else f"={parameter.default!r}"
+    return star + parameter.name + default
+
+
+def parameters(function):
+    return [shown(parameter) for parameter in inspect.signature(function).parameters.values()]
+
+
+class Interface(unittest.TestCase):
+    def test_functions(self):
+        for module, functions in FUNCTIONS.items():
+            for name, wanted in functions.items():
+                function = getattr(importlib.import_module("cutofftills." + module), name)
+                self.assertEqual(function.__module__, "cutofftills." + module)
+                self.assertEqual(parameters(function), wanted.split(), name)
+
+    def test_methods_stand_in_their_classes(self):
+        for (module, name), methods in CLASSES.items():
+            cls = getattr(importlib.import_module("cutofftills." + module), name)
+            self.assertEqual(cls.__module__, "cutofftills." + module)
+            for method, wanted in methods.items():
+                self.assertIn(method, vars(cls), name)
+                if wanted is not None:
+                    self.assertEqual(parameters(vars(cls)[method])[1:], wanted.split(), (name, method))
+
+    def test_the_static_method(self):
+        towns = importlib.import_module("cutofftills.towns")
+        self.assertIsInstance(vars(towns.Town)["even"], staticmethod)
+        self.assertEqual(parameters(towns.Town.even), ["many", "limit", "money"])
+
+
+if __name__ == "__main__":
+    unittest.main()
