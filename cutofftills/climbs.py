@@ -2,7 +2,7 @@
 
 from cutofftills.rounds import parts_of
 from cutofftills.searches import Web
-from cutofftills.states import gain
+from cutofftills.states import weight_of
 
 
 class Climb:
@@ -20,10 +20,8 @@ class Climb:
 
 
 def arcs_of(state, rows, after_loss):
-    """The steps of a state with their weights; after_loss: those ahead of a loss have none."""
-    if after_loss and not state[5]:
-        return [(event, 0, target) for event, _, target in rows]
-    return [(event, gain(event, word), target) for event, word, target in rows]
+    """The steps of a state with their weights."""
+    return [(event, weight_of(state, event, word, after_loss), target) for event, word, target in rows]
 
 
 def part_numbers(parts):
@@ -103,3 +101,17 @@ def rising_ring(climb):
     node, event, target = climb.rising
     ends = [index == node for index in range(len(climb.arcs))]
     return climb.search.events_to(node), [event] + way_to(climb.arcs, target, ends)
+
+
+def most_of(climb, money):
+    """The greatest weight that is reached above the money, or None if there is no bound to it."""
+    return None if climb.rising is not None else max(0, top_height(climb) - money)
+
+
+def ways_of(climb, money):
+    """Events behind which the most is reached and [], or those of a lead and a ring."""
+    if climb.rising is not None:
+        return rising_ring(climb)
+    if top_height(climb) <= money:
+        return [], []
+    return highest_way(climb), []

@@ -17,7 +17,7 @@ def is_honest_event(state, event):
 
 
 def first_refusals(town, enough):
-    """The dict from words to runs of fewest events that end with such a wrong refusal.
+    """The dict from words to runs of fewest events that end with such a wrong refusal, and the states seen.
 
     It looks on until it has so many words, or has seen all states behind honest payments.
     """
@@ -33,18 +33,19 @@ def first_refusals(town, enough):
                     found[word] = search.events_to(at) + [event]
                 search.reach(behind, at, event)
         at += 1
-    return found
+    return found, search.states
 
 
 def refused_run(town):
     """As few events as possible, the last one a payment that is wrongly refused, or None."""
-    runs = list(first_refusals(town, 1).values())
+    found, _ = first_refusals(town, 1)
+    runs = list(found.values())
     return runs[0] if runs else None
 
 
 def refusals_of(town):
     """The ascending list of the words with which payments can be wrongly refused."""
-    found = first_refusals(town, len(REFUSALS))
+    found, _ = first_refusals(town, len(REFUSALS))
     return [word for word in REFUSALS if word in found]
 
 

@@ -82,6 +82,27 @@ class Run:
         return Run(self.town, self.events + (event,))
 
 
+def run_or_none(town, value):
+    """The Run of a list of events (no tuple), or None if any value is none."""
+    if not isinstance(value, list):
+        return None
+    try:
+        return Run(town, value)
+    except BadEvent:
+        return None
+
+
+def plain_run(town, value):
+    """The Run of a list of events without again, or None if any value is none."""
+    run = run_or_none(town, value)
+    return None if run is None or has_again(run.events) else run
+
+
+def has_again(events):
+    """Whether something is told again."""
+    return any([event[0] == "again" for event in events])
+
+
 def paid_units(events, words):
     """The units of those events that are payments that are taken."""
     return sum([event[2] for event, word in zip(events, words) if word == "taken"])

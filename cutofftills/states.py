@@ -15,10 +15,14 @@ def first_state(town):
 
 def is_state(town, value):
     """Whether any value is a state of a town by its form."""
+    return has_state_form(town, Layout(town), value)
+
+
+def has_state_form(town, layout, value):
+    """Whether any value is a state by its form, if the layout of the town is known already."""
     if not isinstance(value, tuple) or len(value) != 7:
         return False
     lines, untold, heard, remembered, left, lost, tops = value
-    layout = Layout(town)
     if not is_row(town, lines) or not is_row(town, untold) or not is_row(town, heard):
         return False
     if not are_truths(lines) or not are_truths(heard) or not is_integer_to(remembered, layout.most):
@@ -73,6 +77,13 @@ def gain(event, word):
     if event[0] == "top":
         return -event[1]
     return event[2] if word == "taken" else 0
+
+
+def weight_of(state, event, word, after_loss):
+    """The weight of a step of a state; after_loss: one ahead of a loss has none."""
+    if after_loss and not state[5]:
+        return 0
+    return gain(event, word)
 
 
 def choices(town, state):

@@ -13,6 +13,13 @@ FUNCTIONS = {
     "graphs": {"steps": "town state", "reached_states": "town", "least_events": "town state"},
     "worst": {"most_overspent": "town", "worst_run": "town", "most_after_loss": "town", "loss_run": "town"},
     "honest": {"refused_run": "town", "refusals_of": "town", "taken_twice": "town"},
+    "papers": {"most_paper": "town", "loss_paper": "town", "refusal_paper": "town", "twice_paper": "town"},
+    "checker": {"lets_most": "town value", "lets_loss": "town value", "lets_refusal": "town value",
+                "lets_twice": "town value"},
+    "limits": {"keeps_wish": "town wish", "best_limits": "town wish most", "foes": "town limits wish most"},
+    "hearing": {"with_link": "town link", "first_link": "town menu", "link_row": "town menu"},
+    "sums": {"group_sum": "town", "is_heeding": "town", "is_plain": "town", "has_spare": "town",
+             "closed_most": "town", "closed_loss": "town", "accepts_sum": "town paper", "sum_paper": "town"},
 }
 CLASSES = {
     ("tills", "Till"): {"__init__": "name limit *heeds=True", "__eq__": "other", "__le__": "other",
