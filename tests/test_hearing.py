@@ -145,8 +145,8 @@ class Rows(Raising):
             more = town.with_links(town.links + (menu[index],))
             self.assertGreaterEqual(below(most_overspent(more)), below(most))
 
-    def test_a_bound_by_a_link(self):
-        # A till with limit 0 beside it does not bound a deaf one: there is no town of two tills where a link does.
+    def test_no_link_gives_a_bound(self):
+        # A deaf till goes round by itself, whoever hears from it.
         for limits in itertools.product(range(3), repeat=2):
             town = Town([Till("a", limits[0], heeds=False), Till("b", limits[1])], money=1)
             self.assertEqual(most_overspent(town) is None, most_overspent(with_link(town, ("a", "b"))) is None)

@@ -20,6 +20,14 @@ FUNCTIONS = {
     "hearing": {"with_link": "town link", "first_link": "town menu", "link_row": "town menu"},
     "sums": {"group_sum": "town", "is_heeding": "town", "is_plain": "town", "has_spare": "town",
              "closed_most": "town", "closed_loss": "town", "accepts_sum": "town paper", "sum_paper": "town"},
+    "splits": {"splits": "town whole", "keeping": "town whole wish", "best_splits": "town whole"},
+    "linking": {"least_links": "town menu wish"},
+    "remembering": {"greatest_memory": "town kind wish", "memories_keeping": "town wish"},
+    "ordered": {"taken_more": "one other", "is_stricter": "one other", "are_alike": "one other",
+                "parting": "one other", "parts": "one other value"},
+    "nights": {"order_of": "town night", "reason": "town night", "is_order": "town night value",
+               "run_of": "town night"},
+    "texts": {"write_town": "town", "write_events": "events", "read_town": "text", "read_events": "text"},
 }
 CLASSES = {
     ("tills", "Till"): {"__init__": "name limit *heeds=True", "__eq__": "other", "__le__": "other",

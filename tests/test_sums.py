@@ -92,6 +92,8 @@ class Papers(Raising):
         self.assertEqual(sum_paper(Town.even(2, 3, 0)), ("sum", [(["a"], 3), (["b"], 3)], 5))
         self.assertEqual(sum_paper(Town.even(2, 3, 1).with_links([("a", "b")])), ("sum", [(["a", "b"], 3)], 3))
         self.assertEqual(sum_paper(Town.even(1, 0, 1)), ("sum", [(["a"], 0)], 0))
+        linked = Town.even(3, 2, 1).with_links([("a", "c")])
+        self.assertEqual(sum_paper(linked), ("sum", [(["a", "c"], 2), (["b"], 2)], 4))
         self.assertEqual(sum_paper(Town([Till("b", 1), Till("a", 0)])), ("sum", [(["b"], 1), (["a"], 0)], 1))
         self.assertEqual(sum_paper(Town.even(1, 2, 1).changed("memory", ("sum", 0))), ("sum", [(["a"], 2)], 1))
 
