@@ -1,27 +1,44 @@
-"""How much weight the steps of a town come to: heights of states, or a step in a ring."""
+"""How much weight the steps between states come to: heights of states, or a step in a ring."""
 
 from cutofftills.rounds import parts_of
-from cutofftills.searches import Web
+from cutofftills.searches import Search, Web
 from cutofftills.states import weight_of
 
 
 class Climb:
-    """The reached states of a town with the weights of their steps, in all or after a loss alone."""
+    """Reached states with the weights of their steps; what is topped up only ever gets less on the way."""
 
-    def __init__(self, town, after_loss):
-        web = Web(town)
-        self.search = web.search
+    def __init__(self, search, arcs):
+        self.search = search
         # By the indexes of states, as lists of tuples (event, weight, index of the state behind).
-        self.arcs = [arcs_of(state, rows, after_loss) for state, rows in zip(web.search.states, web.steps)]
+        self.arcs = arcs
         parts = parts_of([[target for _, _, target in row] for row in self.arcs])
         self.rising = rising_arc(self.arcs, parts)
         # The greatest weight by which each state is reached, if there is a bound to it.
         self.heights = heights_of(self.arcs, parts) if self.rising is None else None
 
 
+def town_climb(town, after_loss):
+    """The Climb of a town, by all weights or by those after a loss alone."""
+    web = Web(town)
+    arcs = [arcs_of(state, rows, after_loss) for state, rows in zip(web.search.states, web.steps)]
+    return Climb(web.search, arcs)
+
+
 def arcs_of(state, rows, after_loss):
     """The steps of a state with their weights."""
     return [(event, weight_of(state, event, word, after_loss), target) for event, word, target in rows]
+
+
+def climb_from(first, steps_of):
+    """The Climb of the states behind a first one; steps_of gives tuples (event, weight, state behind)."""
+    search = Search(first)
+    arcs = []
+    while len(arcs) < len(search.states):
+        at = len(arcs)
+        rows = steps_of(search.states[at])
+        arcs.append([(event, weight, search.reach(behind, at, event)) for event, weight, behind in rows])
+    return Climb(search, arcs)
 
 
 def part_numbers(parts):

@@ -19,6 +19,6 @@ def reached_states(town):
 def least_events(town, state):
     """As few events as possible that lead to a state, or None if none do."""
     search = Web(town).search
-    if not is_state(town, state) or state not in search.places:
+    if not is_state(town, state) or state not in search.indexes:
         return None
-    return search.events_to(search.places[state])
+    return search.events_to(search.indexes[state])

@@ -9,12 +9,12 @@ class Layout:
     def __init__(self, town):
         names = town.names()
         tills = [town[name] for name in names]
-        self.places = {name: index for index, name in enumerate(names)}
+        self.indexes = {name: index for index, name in enumerate(names)}
         self.limits = tuple([till.limit for till in tills])
         self.heeding = tuple([till.heeds for till in tills])
-        self.groups = tuple([tuple([self.places[one] for one in town.group(name)]) for name in names])
+        self.groups = tuple([tuple([self.indexes[one] for one in town.group(name)]) for name in names])
         self.kind = town.memory[0]
-        self.most = most_remembered(town.memory)
+        self.top_remembered = most_remembered(town.memory)
         self.numbered = town.numbered
         self.plain_events = [event for event in events_of(town) if event[0] != "again"]
 

@@ -21,9 +21,9 @@ def can_follow(layout, state, event):
     lines, lost, tops = state[0], state[5], state[6]
     word = event[0]
     if word == "cut":
-        return lines[layout.places[event[1]]]
+        return lines[layout.indexes[event[1]]]
     if word == "line":
-        return not lines[layout.places[event[1]]]
+        return not lines[layout.indexes[event[1]]]
     if word == "top":
         return event[1] <= tops
     if word == "lose":
@@ -35,11 +35,11 @@ def moved(layout, state, event):
     """The state behind an event that can be, no again, and the word of the event."""
     word = event[0]
     if word == "pay":
-        return behind_payment(layout, state, layout.places[event[1]], event[2])
+        return behind_payment(layout, state, layout.indexes[event[1]], event[2])
     if word == "cut":
-        return behind_cut(layout, state, layout.places[event[1]]), "done"
+        return behind_cut(layout, state, layout.indexes[event[1]]), "done"
     if word == "line":
-        return behind_line(layout, state, layout.places[event[1]]), "done"
+        return behind_line(layout, state, layout.indexes[event[1]]), "done"
     if word == "top":
         return behind_top(state, event[1]), "done"
     return behind_loss(state), "done"
@@ -99,7 +99,7 @@ def word_of_payment(layout, state, at, units):
     # Tills with a line have nothing untold, so the whole group can be added up.
     if sum([untold[index] for index in layout.groups[at]]) + units > layout.limits[at]:
         return "limit"
-    if remembered + to_remember(layout, units) > layout.most:
+    if remembered + to_remember(layout, units) > layout.top_remembered:
         return "memory"
     return "taken"
 

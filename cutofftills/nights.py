@@ -51,7 +51,7 @@ def taken_below(town, night, name):
 def is_too_much(town, night):
     """Whether the card would have to remember more than it can."""
     layout = Layout(town)
-    return sum([to_remember(layout, units) for taken in night.values() for units in taken]) > layout.most
+    return sum([to_remember(layout, units) for taken in night.values() for units in taken]) > layout.top_remembered
 
 
 def is_order(town, night, value):

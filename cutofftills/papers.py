@@ -1,18 +1,18 @@
 """Papers: what is told about a town, with all that is needed to see that it is so."""
 
-from cutofftills.climbs import Climb, most_of, ways_of
+from cutofftills.climbs import most_of, town_climb, ways_of
 from cutofftills.graphs import reached_states
 from cutofftills.honest import first_refusals, taken_twice
 
 
 def most_paper(town):
     """A paper of the most that can be overspent, or that there is no bound."""
-    return climb_paper(Climb(town, False), town.money)
+    return climb_paper(town_climb(town, False), town.money)
 
 
 def loss_paper(town):
     """A paper of the most that can be paid after a loss, or that there is no bound."""
-    return climb_paper(Climb(town, True), 0)
+    return climb_paper(town_climb(town, True), 0)
 
 
 def climb_paper(climb, money):

@@ -20,7 +20,7 @@ def can_be_played(town, layout, play, event):
         return False
     state, _, told = play
     if event[0] == "again":
-        at = layout.places[event[1]]
+        at = layout.indexes[event[1]]
         return state[0][at] and told[at] > 0
     return can_follow(layout, state, event)
 
@@ -28,16 +28,16 @@ def can_be_played(town, layout, play, event):
 def played(layout, play, event):
     """The play behind an event that can be, and the word of the event."""
     if event[0] == "again":
-        return told_again(layout, play, layout.places[event[1]]), "done"
+        return told_again(layout, play, layout.indexes[event[1]]), "done"
     state, left, told = play
     behind, word = moved(layout, state, event)
     if event[0] == "top":
         left = left + event[1]
     if event[0] == "line":
-        at = layout.places[event[1]]
+        at = layout.indexes[event[1]]
         left = left - state[1][at]
         told = with_item(told, at, state[1][at])
-    if word == "taken" and state[0][layout.places[event[1]]]:
+    if word == "taken" and state[0][layout.indexes[event[1]]]:
         left = left - event[2]
     return (behind, left, told), word
 

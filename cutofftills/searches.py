@@ -13,18 +13,18 @@ class Search:
 
     def __init__(self, first):
         self.states = [first]
-        self.places = {first: 0}
+        self.indexes = {first: 0}
         self.sources = [None]
 
     def reach(self, state, source, event):
         """The index of a state to which an event leads from the state at the index source."""
-        if state in self.places:
-            return self.places[state]
+        if state in self.indexes:
+            return self.indexes[state]
         at = len(self.states)
         if at == MOST_STATES:
             raise TooMany(MOST_STATES)
         self.states.append(state)
-        self.places[state] = at
+        self.indexes[state] = at
         self.sources.append((source, event))
         return at
 

@@ -25,7 +25,7 @@ def has_state_form(town, layout, value):
     lines, untold, heard, remembered, left, lost, tops = value
     if not is_row(town, lines) or not is_row(town, untold) or not is_row(town, heard):
         return False
-    if not are_truths(lines) or not are_truths(heard) or not is_integer_to(remembered, layout.most):
+    if not are_truths(lines) or not are_truths(heard) or not is_integer_to(remembered, layout.top_remembered):
         return False
     if not is_truth(lost) or not is_integer_to(tops, 0 if lost else town.tops):
         return False

@@ -28,6 +28,9 @@ FUNCTIONS = {
     "nights": {"order_of": "town night", "reason": "town night", "is_order": "town night value",
                "run_of": "town night"},
     "texts": {"write_town": "town", "write_events": "events", "read_town": "text", "read_events": "text"},
+    "purses": {"shared_sum": "purse", "closed_shared": "purse", "gift": "limits money *cards=1"},
+    "days": {"closed_days": "clocks", "has_bound": "clocks"},
+    "maps": {"is_outage": "value"},
 }
 CLASSES = {
     ("tills", "Till"): {"__init__": "name limit *heeds=True", "__eq__": "other", "__le__": "other",
@@ -42,6 +45,18 @@ CLASSES = {
         "then": "event"},
     ("lives", "Life"): {"__init__": "town", "__eq__": "other", "__len__": "", "do": "event", "undo": "", "run": "",
                         "can": "event", "choices": "", "copy": "", "night": ""},
+    ("sessions", "Session"): {"__init__": "town", "__len__": "", "current": "", "put": "till", "assign": "part value",
+                              "join": "one other", "unjoin": "one other", "undo": "", "attempt": "visitor",
+                              "trial": ""},
+    ("console", "Console"): {"__init__": "town", "answer": "line"},
+    ("purses", "Purse"): {"__init__": "town cards", "__eq__": "other", "all_events": "", "first": "",
+                          "choices": "state", "after": "state event", "most": "", "most_run": "", "play": "events"},
+    ("days", "Clocks"): {"__init__": "town *days=None", "__eq__": "other", "all_events": "", "first": "",
+                         "choices": "state", "after": "state event", "most": "", "most_run": "", "play": "events"},
+    ("maps", "Map"): {
+        "__init__": "areas paths=() *length=1 *borders=None *outages=None", "__eq__": "other", "__len__": "",
+        "__iter__": "", "__contains__": None, "places": "", "area_of": "place", "near": "place", "walked": "place",
+        "day": "area phase time", "reach_of_time": "", "with_outages": "outages", "with_borders": "borders"},
 }
 
 
