@@ -31,6 +31,14 @@ FUNCTIONS = {
     "purses": {"shared_sum": "purse", "closed_shared": "purse", "gift": "limits money *cards=1"},
     "days": {"closed_days": "clocks", "has_bound": "clocks"},
     "maps": {"is_outage": "value"},
+    "forms": {"parting_limits": "one other", "form_of": "town", "loss_form": "town", "purse_form": "purse",
+              "clock_form": "clocks", "reach_form": "reach"},
+    "reach": {"is_count": "value many", "is_below": "one other", "reach_of": "chart", "walk_to": "chart count"},
+    "purchases": {"most_by": "reach allowance", "most_paid": "chart allowance", "parting_allowance": "one other"},
+    "walkpapers": {"most_by_days": "chart limits", "best_walk": "chart limits", "units_of": "walk limits",
+                   "never_more": "chart limits", "as_much": "chart limits", "lets_paid": "chart limits value"},
+    "areas": {"joined": "chart pair", "joined_limits": "limits pair", "can_be_more": "chart limits pair",
+              "least_joins": "chart limits wish", "greatest_outages": "chart limits wish"},
 }
 CLASSES = {
     ("tills", "Till"): {"__init__": "name limit *heeds=True", "__eq__": "other", "__le__": "other",
@@ -57,6 +65,14 @@ CLASSES = {
         "__init__": "areas paths=() *length=1 *borders=None *outages=None", "__eq__": "other", "__len__": "",
         "__iter__": "", "__contains__": None, "places": "", "area_of": "place", "near": "place", "walked": "place",
         "day": "area phase time", "reach_of_time": "", "with_outages": "outages", "with_borders": "borders"},
+    ("forms", "Form"): {"__init__": "many terms", "__len__": "", "__call__": "limits", "__add__": "other",
+                        "__or__": "other", "__le__": "other", "__eq__": "other", "needed": ""},
+    ("walks", "Walk"): {"__init__": "chart phase begin stops", "__eq__": "other", "__len__": "", "times": "area",
+                        "count": "", "counts": ""},
+    ("reach", "Reach"): {"__init__": "many counts", "__len__": "", "__iter__": "", "__contains__": None,
+                         "__le__": "other", "__or__": "other", "__and__": "other", "__eq__": "other"},
+    ("purchases", "Allowance"): {"__init__": "days *outages=None *memory=('nothing',)", "__len__": "",
+                                 "__eq__": "other", "worth": "count"},
 }
 
 

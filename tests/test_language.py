@@ -120,7 +120,7 @@ class Statements(unittest.TestCase):
                     ast.literal_eval(node.value)
 
     def test_expressions(self):
-        for place, node in nodes((ast.Div, ast.GeneratorExp, ast.Set, ast.SetComp, ast.Await, ast.Yield, ast.Starred)):
+        for place, node in nodes((ast.Div, ast.GeneratorExp, ast.Set, ast.SetComp, ast.Await, ast.YieldFrom, ast.Starred)):
             self.fail(f"{place} {node}")
         for place, node in nodes(ast.Constant):
             self.assertNotIsInstance(node.value, (float, complex), place)
