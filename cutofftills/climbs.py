@@ -1,8 +1,10 @@
 """How much weight the steps between states come to: heights of states, or a step in a ring."""
 
+from cutofftills.errors import BadEvent
 from cutofftills.rounds import parts_of
 from cutofftills.searches import Search, Web
 from cutofftills.states import weight_of
+from cutofftills.words import is_list
 
 
 class Climb:
@@ -30,15 +32,31 @@ def arcs_of(state, rows, after_loss):
     return [(event, weight_of(state, event, word, after_loss), target) for event, word, target in rows]
 
 
-def climb_from(first, steps_of):
-    """The Climb of the states behind a first one; steps_of gives tuples (event, weight, state behind)."""
+def climb_from(first, events, step):
+    """The Climb of the states behind a first one; step(state, event) gives (state, word, weight) or None."""
     search = Search(first)
     arcs = []
     while len(arcs) < len(search.states):
         at = len(arcs)
-        rows = steps_of(search.states[at])
-        arcs.append([(event, weight, search.reach(behind, at, event)) for event, weight, behind in rows])
+        rows = [(event, step(search.states[at], event)) for event in events]
+        arcs.append([(event, row[2], search.reach(row[0], at, event)) for event, row in rows if row is not None])
     return Climb(search, arcs)
+
+
+def play_through(state, events, step):
+    """The state behind a list of events, their words and weight; raises BadEvent where a step is None."""
+    if not is_list(events):
+        raise BadEvent(None)
+    words = []
+    total = 0
+    for index, event in enumerate(events):
+        row = step(state, event)
+        if row is None:
+            raise BadEvent(index)
+        state, word, weight = row
+        words.append(word)
+        total = total + weight
+    return state, words, total
 
 
 def part_numbers(parts):

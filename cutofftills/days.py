@@ -1,6 +1,6 @@
 """Towns with clocks: each till begins new days by its own clock."""
 
-from cutofftills.climbs import climb_from, most_of, ways_of
+from cutofftills.climbs import climb_from, most_of, play_through, ways_of
 from cutofftills.errors import BadEvent, BadPart, BadTown
 from cutofftills.events import is_event
 from cutofftills.layouts import Layout
@@ -8,7 +8,7 @@ from cutofftills.moves import can_follow, moved, to_remember, with_item, word_of
 from cutofftills.states import first_state, gain
 from cutofftills.sums import group_sum, has_money, has_spare, is_plain
 from cutofftills.towns import Town
-from cutofftills.words import is_integer_to, is_list, is_word
+from cutofftills.words import is_integer_to, is_word
 
 MOST_DAYS = 5
 
@@ -42,31 +42,22 @@ class Clocks:
 
     def after(self, state, event):
         """The state behind an event, and its word."""
-        if not is_clock_event(self.town, event) or not can_come(self._layout, state, event):
+        row = clock_step(self, state, event)
+        if row is None:
             raise BadEvent(event)
-        return clock_moved(self._layout, most_told(self.town), state, event)
+        return row[0], row[1]
 
     def most(self):
         """The most that can be overspent, or None if there is no bound."""
-        return most_of(clock_climb(self, self._layout), self.town.money)
+        return most_of(clock_climb(self), self.town.money)
 
     def most_run(self):
         """Events behind which the most is overspent and [], or a lead and a ring."""
-        return ways_of(clock_climb(self, self._layout), self.town.money)
+        return ways_of(clock_climb(self), self.town.money)
 
     def play(self, events):
         """The state behind a list of events from the beginning, their words, and what is overspent."""
-        if not is_list(events):
-            raise BadEvent(None)
-        state = self.first()
-        words = []
-        paid = 0
-        for index, event in enumerate(events):
-            if not is_clock_event(self.town, event) or not can_come(self._layout, state, event):
-                raise BadEvent(index)
-            state, word = clock_moved(self._layout, most_told(self.town), state, event)
-            words.append(word)
-            paid = paid + gain(event, word)
+        state, words, paid = play_through(self.first(), events, lambda here, event: clock_step(self, here, event))
         return state, words, max(0, paid - self.town.money)
 
 
@@ -116,21 +107,17 @@ def behind_counted(layout, cap, state, at, units):
     return ((lines, untold, heard, remembered, left, lost, tops), counted, days), word
 
 
-def clock_climb(clocks, layout):
+def clock_step(clocks, state, event):
+    """The state behind an event, its word and its weight; None for any value that is no event that can be."""
+    if not is_clock_event(clocks.town, event) or not can_come(clocks._layout, state, event):
+        return None
+    behind, word = clock_moved(clocks._layout, most_told(clocks.town), state, event)
+    return behind, word, gain(event, word)
+
+
+def clock_climb(clocks):
     """The Climb of the states that are reached with clocks."""
-    events = clocks.all_events()
-    cap = most_told(clocks.town)
-    return climb_from(clocks.first(), lambda state: clock_steps(layout, cap, events, state))
-
-
-def clock_steps(layout, cap, events, state):
-    """The steps of a state: tuples of an event that can be, its weight and the state behind it."""
-    rows = []
-    for event in events:
-        if can_come(layout, state, event):
-            behind, word = clock_moved(layout, cap, state, event)
-            rows.append((event, gain(event, word), behind))
-    return rows
+    return climb_from(clocks.first(), clocks.all_events(), lambda here, event: clock_step(clocks, here, event))
 
 
 def closed_days(clocks):

@@ -1,6 +1,6 @@
 """Purses: towns in which one or two cards pay from the same money."""
 
-from cutofftills.climbs import climb_from, most_of, ways_of
+from cutofftills.climbs import climb_from, most_of, play_through, ways_of
 from cutofftills.errors import BadEvent, BadPart, BadTown
 from cutofftills.events import UNITS, is_event
 from cutofftills.layouts import Layout
@@ -57,31 +57,22 @@ class Purse:
 
     def after(self, state, event):
         """The state behind an event, and its word."""
-        if not is_purse_event(self, event) or not can_happen(self._layout, state, event):
+        row = purse_step(self, state, event)
+        if row is None:
             raise BadEvent(event)
-        return purse_moved(self._layout, state, event)
+        return row[0], row[1]
 
     def most(self):
         """The most that can be overspent, or None if there is no bound."""
-        return most_of(purse_climb(self, self._layout), self.town.money)
+        return most_of(purse_climb(self), self.town.money)
 
     def most_run(self):
         """Events behind which the most is overspent and [], or a lead and a ring."""
-        return ways_of(purse_climb(self, self._layout), self.town.money)
+        return ways_of(purse_climb(self), self.town.money)
 
     def play(self, events):
         """The state behind a list of events from the beginning, their words, and what is overspent."""
-        if not is_list(events):
-            raise BadEvent(None)
-        state = self.first()
-        words = []
-        paid = 0
-        for index, event in enumerate(events):
-            if not is_purse_event(self, event) or not can_happen(self._layout, state, event):
-                raise BadEvent(index)
-            state, word = purse_moved(self._layout, state, event)
-            words.append(word)
-            paid = paid + purse_gain(event, word)
+        state, words, paid = play_through(self.first(), events, lambda here, event: purse_step(self, here, event))
         return state, words, max(0, paid - self.town.money)
 
 
@@ -164,20 +155,17 @@ def purse_gain(event, word):
     return event[3] if word == "taken" else 0
 
 
-def purse_climb(purse, layout):
+def purse_step(purse, state, event):
+    """The state behind an event, its word and its weight; None for any value that is no event that can be."""
+    if not is_purse_event(purse, event) or not can_happen(purse._layout, state, event):
+        return None
+    behind, word = purse_moved(purse._layout, state, event)
+    return behind, word, purse_gain(event, word)
+
+
+def purse_climb(purse):
     """The Climb of the states that are reached with a purse."""
-    events = purse.all_events()
-    return climb_from(purse.first(), lambda state: purse_steps(layout, events, state))
-
-
-def purse_steps(layout, events, state):
-    """The steps of a state: tuples of an event that can be, its weight and the state behind it."""
-    rows = []
-    for event in events:
-        if can_happen(layout, state, event):
-            behind, word = purse_moved(layout, state, event)
-            rows.append((event, purse_gain(event, word), behind))
-    return rows
+    return climb_from(purse.first(), purse.all_events(), lambda here, event: purse_step(purse, here, event))
 
 
 def shared_sum(purse):
