@@ -8,7 +8,7 @@ from cutofftills.moves import behind_cut, behind_payment, can_follow, cut_to_top
 from cutofftills.sums import group_sum, has_money, has_spare, is_plain
 from cutofftills.tills import Till
 from cutofftills.towns import EVEN_NAMES, Town
-from cutofftills.words import TOP_MONEY, is_integer, is_integer_to, is_limit, is_list
+from cutofftills.words import is_integer, is_integer_to, is_limit, is_list
 
 MOST_CARDS = 2
 MOST_GIFT_TILLS = 3
@@ -188,7 +188,5 @@ def gift(limits, money, *, cards=1):
         raise BadPart("limits")
     if not all([is_limit(limit) for limit in limits]):
         raise BadPart("limits")
-    if not is_integer_to(money, TOP_MONEY):
-        raise BadPart("money")
     tills = [Till(name, limit) for name, limit in zip(EVEN_NAMES[:len(limits)], limits)]
     return Purse(Town(tills, money=money), cards)
